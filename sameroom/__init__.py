@@ -1,0 +1,1 @@
+"""Sameroom: every program run by reversible steps in the same memory."""

@@ -1,0 +1,40 @@
+"""What the interface lists stands where it says, with the names of the arguments that it says."""
+
+import importlib
+import inspect
+import unittest
+
+FUNCTIONS = {
+    "expressions": {
+        "is_name": "(text)", "expression_size": "(expression)", "value_of": "(expression, values, helpers=())",
+        "replaced": "(expression, name, number)", "names_in": "(expression)", "calls_in": "(expression)",
+    },
+    "expressiontexts": {"write_expression": "(expression)", "read_expression": "(text)"},
+    "programs": {"Program": "(name, given, cells, answers, procedures, body)", "Library": "(programs)"},
+    "librarytexts": {"read_library": "(text)", "write_library": "(library)"},
+    "codes": {"Code": "(given, cells, answers, lines, helpers=(), entry=0)", "started": "(code, state)"},
+    "plain": {
+        "all_states": "(code)", "start_state": "(code)", "next_state": "(code, given, state)",
+        "end_number": "(code, given, state)", "describe_outcome": "(code, number)", "run_states": "(code, given, state)",
+        "cycle_from": "(code, given, state)", "path_to": "(code, given, state)", "outcome": "(code, given, state=None)",
+    },
+}
+METHODS = {("programs", "Library", "named"): "(self, name)", ("codes", "Code", "call_value"): "(self, args)"}
+
+
+class InterfaceTest(unittest.TestCase):
+    def test_functions_and_classes(self):
+        for file, names in FUNCTIONS.items():
+            module = importlib.import_module(f"sameroom.{file}")
+            for name, signature in names.items():
+                self.assertEqual(str(inspect.signature(getattr(module, name))), signature, name)
+                self.assertEqual(getattr(module, name).__module__, f"sameroom.{file}", name)
+
+    def test_methods(self):
+        for (file, owner, name), signature in METHODS.items():
+            method = vars(getattr(importlib.import_module(f"sameroom.{file}"), owner))[name]
+            self.assertEqual(str(inspect.signature(method)), signature, name)
+
+
+if __name__ == "__main__":
+    unittest.main()
