@@ -31,6 +31,25 @@ class ErrorTest(unittest.TestCase):
                 self.assertEqual(vars(made(*worths[:len(fields)])), expected)
                 self.assertEqual(vars(made(**expected)), expected)
 
+    def test_very_large_numbers(self):
+        for number in (10 ** 18, -10 ** 18, 10 ** 4299, 10 ** 4300, -10 ** 4300, -7 ** 9000):
+            for name, fields in FIELDS.items():
+                if name == "UnknownProgram":
+                    continue
+                worths = [number if field != "names" else ("a", "b") for field in fields]
+                with self.subTest(name):
+                    made = getattr(errors, name)
+                    expected = dict(zip(fields, worths))
+                    for error in (made(*worths), made(**expected)):
+                        self.assertTrue(vars(error) == expected)
+                        self.assertIn("very large", str(error))
+
+    def test_messages_tell_numbers(self):
+        for number in (-10 ** 18 + 1, -1, 0, 7, 10 ** 18 - 1):
+            for name in sorted({*FIELDS} - {"UnknownProgram"}):
+                made = getattr(errors, name)
+                self.assertIn(str(number), str(made(number, *("x",) * (len(FIELDS[name]) - 1))))
+
     def test_messages_tell_something(self):
         for name, fields in FIELDS.items():
             self.assertNotEqual(str(getattr(errors, name)(*(3, 4)[:len(fields)])), "")
