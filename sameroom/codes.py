@@ -1,11 +1,15 @@
 """Codes: programs as tuples of lines."""
 
+from sameroom.cells import all_values, in_range, names_of, value_count
 from sameroom.errors import BadCode
+from sameroom.expressions import worked_out
+from sameroom.fingerrows import finger_rows, fingers_by_slot
 from sameroom.limits import (
-    MOST_CASES, MOST_LINES, are_names, argument_counts, calls_fit, fits, keeps_names, keeps_sizes, names_of,
-    value_count,
+    MOST_CASES, MOST_LINES, are_names, argument_counts, calls_fit, fits, keeps_names, keeps_sizes,
 )
 from sameroom.plain import outcome
+from sameroom.ready import ready_line
+from sameroom.statements import expressions_of
 
 MOST_HELPERS = 4
 MOST_NODES = 32
@@ -19,12 +23,6 @@ def _targets_of(line):
     if line[0] == "pick":
         return line[2]
     return ()
-
-
-def _expressions_of(line):
-    if line[0] == "fail":
-        return ()
-    return (line[2],) if line[0] == "set" else (line[1],)
 
 
 def _frame_fits(given, cells, answers, lines, helpers, entry):
@@ -45,12 +43,24 @@ def _line_fits(line, given, cells, helpers, line_total):
     if line[0] == "pick" and not 1 <= len(line[2]) <= MOST_CASES:
         return False
     names = names_of(given) + names_of(cells)
-    for expression in _expressions_of(line):
+    for expression in expressions_of(line):
         if not fits(expression, MOST_NODES, MOST_DEPTH, names):
             return False
         if not calls_fit(expression, argument_counts(helpers)):
             return False
     return True
+
+
+def _slots_met(code):
+    """The slots by which some state is reached at some given, as a dict of True."""
+    met = {}
+    for given in all_values(code.given):
+        for values in all_values(code.cells):
+            for line in range(len(code.lines)):
+                slot = code.line_result(given, (line, values))[1]
+                if slot is not None:
+                    met[slot] = True
+    return met
 
 
 class Code:
@@ -68,8 +78,15 @@ class Code:
         self.lines = lines
         self.helpers = helpers
         self.entry = entry
-        # Outcomes by givens: without them, codes that ask codes that ask codes would take ages.
+        # What every step of a machine asks for, worked out once.
+        self._names = tuple(names_of(given + cells))
+        self._named_helpers = dict(helpers)
+        self._ready_lines = tuple([ready_line(line, cells, answers) for line in lines])
+        self._finger_rows = finger_rows(lines, cells, entry)
+        self._slot_fingers = fingers_by_slot(self._finger_rows)
+        # Kept answers. Without those by givens, codes that ask codes that ask codes would take ages.
         self._outcomes = {}
+        self._used_slots = None
 
     @property
     def state_count(self):
@@ -78,12 +95,41 @@ class Code:
 
     def call_value(self, args):
         """The value of a call: the outcome number of the run with this given, or -1 if it is out of range."""
-        for cell, number in zip(self.given, args):
-            if not 0 <= number < cell[1]:
-                return -1
+        if not in_range(self.given, args):
+            return -1
         if args not in self._outcomes:
             self._outcomes[args] = outcome(self, args)
         return self._outcomes[args]
+
+    def line_result(self, given, state):
+        """What the line of a state does: the next state, the slot by which it is reached, and the outcome number.
+
+        Where the run ends, the first two are None; otherwise the last one is.
+        """
+        line, values = state
+        word, steps, at, bound, targets = self._ready_lines[line]
+        value = worked_out(steps, dict(zip(self._names, given + values)), self._named_helpers)
+        if not 0 <= value < bound:
+            return (None, None, 1 + self.answers + line)
+        if word == "set":
+            return ((targets[0], values[:at] + (value,) + values[at + 1:]), (line, 0, values[at]), None)
+        if word == "pick":
+            return ((targets[value], values), (line, value, 0), None)
+        return (None, None, 1 + value)
+
+    def fingers_of(self, line):
+        """For each finger of a line its slot, or None."""
+        return self._finger_rows[line]
+
+    def finger_of(self, slot):
+        """The finger of a slot, on the line to which the slot belongs."""
+        return self._slot_fingers[slot]
+
+    def used_slots(self):
+        """The slots by which some state is reached at some given, as a dict of True."""
+        if self._used_slots is None:
+            self._used_slots = _slots_met(self)
+        return self._used_slots
 
     def __eq__(self, other):
         if not isinstance(other, Code):

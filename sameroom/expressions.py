@@ -10,6 +10,13 @@ LETTERS = "abcdefghijklmnopqrstuvwxyz"
 DIGITS = "0123456789"
 LONGEST_NAME = 8
 
+# The kinds of steps (see steps_of).
+NUMBER = 0
+NAME = 1
+PAIR = 2
+NOT = 3
+CALL = 4
+
 
 def is_name(text):
     """Whether a string may name a cell, a procedure or a program."""
@@ -51,18 +58,21 @@ def folded(expression, combine):
     return results[0]
 
 
-def _joined_size(_, sizes):
-    nodes = 1
-    depth = 0
-    for part_nodes, part_depth in sizes:
-        nodes = nodes + part_nodes
-        depth = max(depth, part_depth)
-    return (nodes, depth + 1)
+def levels_in(expression):
+    """The list of pairs of all that lies within an expression and its level: 1 for itself, 2 for its parts."""
+    todo = [(expression, 1)]
+    found = []
+    while todo:
+        part, level = todo.pop()
+        found.append((part, level))
+        todo.extend([(inner, level + 1) for inner in parts_of(part)])
+    return found
 
 
 def expression_size(expression):
     """The number of nodes of an expression, and its depth."""
-    return folded(expression, _joined_size)
+    levels = [level for _, level in levels_in(expression)]
+    return (len(levels), max(levels))
 
 
 def _either(left, right):
@@ -124,26 +134,47 @@ ACTIONS = {
 }
 
 
-def value_of(expression, values, helpers=()):
-    """The value of an expression, by the values of its names and the helpers that it calls."""
-    # Not made of `folded`: every step of every machine asks for values, and this is about twice as fast.
+def _step_of(part):
+    if isinstance(part, int):
+        return (NUMBER, part)
+    if isinstance(part, str):
+        return (NAME, part)
+    if part[0] == "call":
+        return (CALL, (part[1], len(part[2])))
+    if part[0] == "not":
+        return (NOT, None)
+    return (PAIR, ACTIONS[part[0]])
+
+
+def steps_of(expression):
+    """The steps that work an expression out, one for each part: each a kind and what it works with."""
+    # Machines keep them, since taking an expression apart takes longer than working it out.
+    return tuple([_step_of(part) for part in inner_first(expression)])
+
+
+def worked_out(steps, values, helpers):
+    """The value to which the steps of an expression lead; `helpers` is a dict."""
     results = []
-    for part in inner_first(expression):
-        if isinstance(part, int):
-            results.append(part)
-        elif isinstance(part, str):
-            results.append(values[part])
-        elif part[0] == "call":
-            helper = dict(helpers)[part[1]]
-            first = len(results) - len(part[2])
-            results[first:] = [helper.call_value(tuple(results[first:]))]
-        elif part[0] == "not":
+    for kind, worth in steps:
+        if kind == NUMBER:
+            results.append(worth)
+        elif kind == NAME:
+            results.append(values[worth])
+        elif kind == PAIR:
+            right = results.pop()
+            results.append(worth(results.pop(), right))
+        elif kind == NOT:
             results.append(1 if results.pop() == 0 else 0)
         else:
-            right = results.pop()
-            action = ACTIONS[part[0]]
-            results.append(action(results.pop(), right))
+            name, count = worth
+            first = len(results) - count
+            results[first:] = [helpers[name].call_value(tuple(results[first:]))]
     return results[0]
+
+
+def value_of(expression, values, helpers=()):
+    """The value of an expression, by the values of its names and the helpers that it calls."""
+    return worked_out(steps_of(expression), values, dict(helpers))
 
 
 def replaced(expression, name, number):

@@ -1,8 +1,9 @@
 """The rules that a library asks of each of its programs."""
 
+from sameroom.cells import names_of
 from sameroom.expressions import is_name
 from sameroom.limits import (
-    MOST_CASES, MOST_LINES, are_names, argument_counts, calls_fit, fits, keeps_names, keeps_sizes, names_of,
+    MOST_CASES, MOST_LINES, are_names, argument_counts, calls_fit, fits, keeps_names, keeps_sizes,
 )
 from sameroom.statements import done_in, expressions_of, line_count, statements_in
 

@@ -1,6 +1,7 @@
 """Bounds that programs, codes and books share: on their cells, and on the expressions in them."""
 
-from sameroom.expressions import calls_in, expression_size, inner_first, is_name, names_in
+from sameroom.cells import names_of, value_count
+from sameroom.expressions import is_name, levels_in
 
 MOST_GIVEN = 3
 MOST_CELLS = 4
@@ -13,25 +14,12 @@ MOST_CASES = 6
 MOST_LINES = 24
 
 
-def names_of(cells):
-    """The names of cells, or of anything else that is a tuple with its name in front."""
-    return [cell[0] for cell in cells]
-
-
 def are_names(texts):
     """Whether all of these are names, and no two of them the same."""
     for text in texts:
         if not is_name(text):
             return False
     return len(set(texts)) == len(texts)
-
-
-def value_count(cells):
-    """How many tuples of values the cells can have; 1 without cells."""
-    count = 1
-    for cell in cells:
-        count = count * cell[1]
-    return count
 
 
 def keeps_names(given, cells):
@@ -56,14 +44,13 @@ def keeps_sizes(given, cells, answers):
 
 def fits(expression, most_nodes, most_depth, names):
     """Whether an expression is small enough, its numbers too, and all its names are among these."""
-    nodes, depth = expression_size(expression)
-    if nodes > most_nodes or depth > most_depth:
+    levels = levels_in(expression)
+    if len(levels) > most_nodes:
         return False
-    for part in inner_first(expression):
-        if isinstance(part, int) and not -MOST_NUMBER <= part <= MOST_NUMBER:
+    for part, level in levels:
+        if level > most_depth or isinstance(part, int) and not -MOST_NUMBER <= part <= MOST_NUMBER:
             return False
-    for name in names_in(expression):
-        if name not in names:
+        if isinstance(part, str) and part not in names:
             return False
     return True
 
@@ -75,10 +62,8 @@ def argument_counts(helpers):
 
 def calls_fit(expression, counts):
     """Whether every call names one of these, with as many arguments as the dict says."""
-    for name in calls_in(expression):
-        if name not in counts:
-            return False
-    for part in inner_first(expression):
-        if isinstance(part, tuple) and part[0] == "call" and len(part[2]) != counts[part[1]]:
-            return False
+    for part, _ in levels_in(expression):
+        if isinstance(part, tuple) and part[0] == "call":
+            if part[1] not in counts or len(part[2]) != counts[part[1]]:
+                return False
     return True

@@ -1,20 +1,12 @@
 """The plain machine: runs a code line by line, forgetting what it overwrites."""
 
-from sameroom.expressions import value_of
-
-
-def _all_values(cells):
-    """The list of all tuples of values that cells can have, ascending."""
-    rows = [()]
-    for cell in cells:
-        rows = [row + (value,) for row in rows for value in range(cell[1])]
-    return rows
+from sameroom.cells import all_values
 
 
 def all_states(code):
     """All states of a code, ascending."""
     for line in range(len(code.lines)):
-        for values in _all_values(code.cells):
+        for values in all_values(code.cells):
             yield (line, values)
 
 
@@ -23,51 +15,14 @@ def start_state(code):
     return (code.entry, tuple([cell[2] for cell in code.cells]))
 
 
-def _known_values(code, given, values):
-    """The dict of the values of all cells of a code."""
-    known = {}
-    for cell, value in zip(code.given, given):
-        known[cell[0]] = value
-    for cell, value in zip(code.cells, values):
-        known[cell[0]] = value
-    return known
-
-
-def _set_result(code, state, row, value):
-    """What comes after a `set` line that gives this value, as `_line_result` tells it."""
-    line, values = state
-    for at, cell in enumerate(code.cells):
-        if cell[0] == row[1] and 0 <= value < cell[1]:
-            return ((row[3], values[:at] + (value,) + values[at + 1:]), None)
-    return (None, 1 + code.answers + line)
-
-
-def _line_result(code, given, state):
-    """The pair of the next state and the outcome number: one of them is None."""
-    line, values = state
-    row = code.lines[line]
-    fault = 1 + code.answers + line
-    if row[0] == "fail":
-        return (None, fault)
-    expression = row[2] if row[0] == "set" else row[1]
-    value = value_of(expression, _known_values(code, given, values), code.helpers)
-    if row[0] == "set":
-        return _set_result(code, state, row, value)
-    if row[0] == "pick":
-        if 0 <= value < len(row[2]):
-            return ((row[2][value], values), None)
-        return (None, fault)
-    return (None, 1 + value if 0 <= value < code.answers else fault)
-
-
 def next_state(code, given, state):
     """The state after one line, or None if the run ends here."""
-    return _line_result(code, given, state)[0]
+    return code.line_result(given, state)[0]
 
 
 def end_number(code, given, state):
     """The outcome number of the end of the run, or None if it does not end here."""
-    return _line_result(code, given, state)[1]
+    return code.line_result(given, state)[2]
 
 
 def describe_outcome(code, number):

@@ -13,7 +13,7 @@ def inner_bodies(statement):
 
 
 def expressions_of(statement):
-    """The expressions that stand directly in a statement: one or none."""
+    """The expressions that stand directly in a statement, or in a line of a code: one or none."""
     if statement[0] == "set":
         return (statement[2],)
     if statement[0] in ("if", "while", "pick", "stop"):
@@ -38,8 +38,8 @@ def done_in(body):
     return [statement[1] for statement, around in statements_in(body) if statement[0] == "do"]
 
 
-def _count_lines(body, procedures, counts):
-    """How many lines a body has; `counts` keeps the number for each procedure that was counted."""
+def lines_of_body(body, procedures, counts):
+    """How many lines a body has; `procedures` is a dict, `counts` keeps the number for each one that was counted."""
     count = 0
     for statement, _ in statements_in(body):
         if statement[0] != "do":
@@ -47,7 +47,7 @@ def _count_lines(body, procedures, counts):
         else:
             name = statement[1]
             if name not in counts:
-                counts[name] = _count_lines(procedures[name], procedures, counts)
+                counts[name] = lines_of_body(procedures[name], procedures, counts)
             count = count + counts[name]
     return count
 
@@ -55,4 +55,4 @@ def _count_lines(body, procedures, counts):
 def line_count(program):
     """How many lines the code of a program has, the closing line included; no procedure does itself."""
     # A count on its own: procedures that do one another make millions of lines long before a rule stops them.
-    return _count_lines(program.body, dict(program.procedures), {}) + 1
+    return lines_of_body(program.body, dict(program.procedures), {}) + 1

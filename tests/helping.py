@@ -1,6 +1,11 @@
-"""What several tests share: looking at raised errors and at kinds of values, and making expressions by chance."""
+"""What several tests share: looking at raised errors and at kinds of values, and making things by chance.
 
+Also slow ways to answer questions, straight from the words of the document.
+"""
+
+from sameroom.codes import Code
 from sameroom.errors import RoomError
+from sameroom.programs import Library, Program
 
 BINARY = ("or", "and", "=", "!=", "<", "<=", ">", ">=", "+", "-", "*", "div", "mod")
 
@@ -72,3 +77,101 @@ def slow_value(expression, values, helpers):
         "+": left + right, "-": left - right, "*": left * right,
         "div": left // right if right else 0, "mod": left % right if right else left,
     }[expression[0]]
+
+
+def slow_step(code, given, state):
+    """The next state and the outcome number, straight from the words of the document; one is None."""
+    line, values = state
+    row = code.lines[line]
+    fault = (None, 1 + code.answers + line)
+    known = dict(zip([name for name, _ in code.given], given))
+    known.update(zip([name for name, _, _ in code.cells], values))
+    if row[0] == "fail":
+        return fault
+    value = slow_value(row[2] if row[0] == "set" else row[1], known, dict(code.helpers))
+    if row[0] == "stop":
+        return (None, 1 + value) if value in range(code.answers) else fault
+    if row[0] == "pick":
+        return ((row[2][value], values), None) if value in range(len(row[2])) else fault
+    names = [name for name, _, _ in code.cells]
+    sizes = [size for _, size, _ in code.cells]
+    at = names.index(row[1])
+    if value not in range(sizes[at]):
+        return fault
+    known[row[1]] = value
+    return ((row[3], tuple(known[name] for name in names)), None)
+
+
+def chance_code(chance, helpers=()):
+    given = (("g", chance.randrange(1, 3)), ("x", 2))[:chance.randrange(3)]
+    cells = (("a", chance.randrange(1, 4), 0), ("b", 3, chance.randrange(3)), ("c", 2, 1))[:chance.randrange(4)]
+    names = [cell[0] for cell in given + cells] or [0]
+    calls = [(name, len(helper.given)) for name, helper in helpers]
+    count = chance.randrange(1, 7)
+    lines = []
+    for _ in range(count):
+        expression = chance_expression(chance, names, calls, 3)
+        kind = chance.choice(("set", "set", "set", "pick", "pick", "stop", "fail"))
+        if kind == "set" and cells:
+            cell = chance.choice(cells)
+            expression = ("mod", expression, chance.choice((cell[1], cell[1], cell[1] + 1)))
+            lines.append(("set", cell[0], expression, chance.randrange(count)))
+        elif kind == "pick":
+            targets = tuple(chance.randrange(count) for _ in range(chance.randrange(1, 7)))
+            lines.append(("pick", ("mod", expression, 7), targets))
+        else:
+            lines.append(("stop", expression) if kind == "stop" else ("fail",))
+    return Code(given, cells, chance.randrange(1, 5), tuple(lines), helpers, chance.randrange(count))
+
+
+def givens_of(code):
+    rows = [()]
+    for _, size in code.given:
+        rows = [row + (value,) for row in rows for value in range(size)]
+    return rows
+
+
+def chance_statement(chance, cells, names, procedures, calls, depth):
+    expression = chance_expression(chance, names, calls, 3)
+    kinds = ["set"] * 4 * bool(cells) + ["if", "while", "pick"] * (depth > 0) + ["do"] * 2 * bool(procedures) + ["stop", "fail"]
+    kind = chance.choice(kinds)
+    if kind == "set":
+        cell = chance.choice(cells)
+        return ("set", cell[0], ("mod", expression, chance.choice((cell[1], cell[1], cell[1] + 1))))
+    if kind == "do":
+        return ("do", chance.choice(procedures))
+    if kind in ("stop", "fail"):
+        return (kind, expression)[:1 + (kind == "stop")]
+    inner = [chance_body(chance, cells, names, procedures, calls, depth - 1) for _ in range(chance.randrange(1, 5))]
+    if kind == "pick":
+        return ("pick", ("mod", expression, 4), tuple(inner))
+    return ("if", expression, inner[0], inner[-1]) if kind == "if" else ("while", expression, inner[0])
+
+
+def chance_body(chance, cells, names, procedures, calls, depth):
+    count = chance.choice((0, 1, 1, 2, 2, 3))
+    return tuple(chance_statement(chance, cells, names, procedures, calls, depth) for _ in range(count))
+
+
+def chance_program(chance, name, earlier):
+    given = (("g", chance.randrange(1, 4)), ("k", 2))[:chance.randrange(3)]
+    cells = (("a", chance.randrange(1, 4), 0), ("b", 3, chance.randrange(3)))[:chance.randrange(3)]
+    names = [cell[0] for cell in given + cells] or [0]
+    calls = [(program.name, len(program.given)) for program in earlier]
+    procedures = []
+    for procedure in ("p", "q", "r")[:chance.randrange(4)]:
+        done = [before for before, _ in procedures]
+        procedures.append((procedure, chance_body(chance, cells, names, done, calls, 1)))
+    done = [before for before, _ in procedures]
+    body = chance_body(chance, cells, names, done, calls, 2) + chance_body(chance, cells, names, done, calls, 2)
+    return Program(name, given, cells, chance.randrange(1, 4), tuple(procedures), body)
+
+
+def chance_library(chance, count):
+    """A library of random programs that keeps all rules."""
+    programs = ()
+    while len(programs) < count:
+        program = chance_program(chance, "abcde"[len(programs)], programs)
+        if isinstance(told(Library, programs + (program,)), Library):
+            programs = programs + (program,)
+    return Library(programs)

@@ -18,8 +18,21 @@ FUNCTIONS = {
         "end_number": "(code, given, state)", "describe_outcome": "(code, number)", "run_states": "(code, given, state)",
         "cycle_from": "(code, given, state)", "path_to": "(code, given, state)", "outcome": "(code, given, state=None)",
     },
+    "compiling": {"code_of": "(library, name)", "line_sources": "(library, name)"},
+    "slots": {
+        "slots": "(code, line)", "finger_count": "(code, line)", "slot_finger": "(code, line, slot)",
+        "finger_slot": "(code, line, finger)",
+    },
+    "fingers": {
+        "across": "(code, given, state, finger)", "is_blind": "(code, given, state, finger)",
+        "predecessors": "(code, given, state)",
+    },
+    "rotations": {"unused_fingers": "(code)", "Rotation": "(code, rows=None)", "lean_rotation": "(code)"},
 }
-METHODS = {("programs", "Library", "named"): "(self, name)", ("codes", "Code", "call_value"): "(self, args)"}
+METHODS = {
+    ("programs", "Library", "named"): "(self, name)", ("codes", "Code", "call_value"): "(self, args)",
+    ("rotations", "Rotation", "after"): "(self, line, finger)", ("rotations", "Rotation", "before"): "(self, line, finger)",
+}
 
 
 class InterfaceTest(unittest.TestCase):

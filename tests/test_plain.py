@@ -8,7 +8,7 @@ from sameroom.codes import Code, started
 from sameroom.plain import (
     all_states, cycle_from, describe_outcome, end_number, next_state, outcome, path_to, run_states, start_state,
 )
-from tests.helping import chance_expression, is_plain, slow_value
+from tests.helping import chance_code, givens_of, is_plain, slow_step
 
 COUNT = Code((), (("x", 3, 0),), 3, (
     ("set", "x", ("mod", ("+", "x", 1), 3), 1), ("pick", ("=", "x", 2), (0, 2)), ("stop", "x"),
@@ -18,58 +18,6 @@ FLIP = Code((), (("x", 2, 0),), 1, (("set", "x", ("-", 1, "x"), 0),))
 RHO = Code((), (("x", 8, 1),), 8, (
     ("pick", (">", "x", 5), (1, 2)), ("set", "x", ("+", ("mod", ("-", "x", 1), 3), 2), 0), ("stop", "x"),
 ))
-
-
-def slow_step(code, given, state):
-    """The next state and the outcome number, straight from the words of the document; one is None."""
-    line, values = state
-    row = code.lines[line]
-    fault = (None, 1 + code.answers + line)
-    known = dict(zip([name for name, _ in code.given], given))
-    known.update(zip([name for name, _, _ in code.cells], values))
-    if row[0] == "fail":
-        return fault
-    value = slow_value(row[2] if row[0] == "set" else row[1], known, dict(code.helpers))
-    if row[0] == "stop":
-        return (None, 1 + value) if value in range(code.answers) else fault
-    if row[0] == "pick":
-        return ((row[2][value], values), None) if value in range(len(row[2])) else fault
-    names = [name for name, _, _ in code.cells]
-    sizes = [size for _, size, _ in code.cells]
-    at = names.index(row[1])
-    if value not in range(sizes[at]):
-        return fault
-    known[row[1]] = value
-    return ((row[3], tuple(known[name] for name in names)), None)
-
-
-def chance_code(chance, helpers=()):
-    given = (("g", chance.randrange(1, 3)), ("x", 2))[:chance.randrange(3)]
-    cells = (("a", chance.randrange(1, 4), 0), ("b", 3, chance.randrange(3)), ("c", 2, 1))[:chance.randrange(4)]
-    names = [cell[0] for cell in given + cells] or [0]
-    calls = [(name, len(helper.given)) for name, helper in helpers]
-    count = chance.randrange(1, 7)
-    lines = []
-    for _ in range(count):
-        expression = chance_expression(chance, names, calls, 3)
-        kind = chance.choice(("set", "set", "set", "pick", "pick", "stop", "fail"))
-        if kind == "set" and cells:
-            cell = chance.choice(cells)
-            expression = ("mod", expression, chance.choice((cell[1], cell[1], cell[1] + 1)))
-            lines.append(("set", cell[0], expression, chance.randrange(count)))
-        elif kind == "pick":
-            targets = tuple(chance.randrange(count) for _ in range(chance.randrange(1, 7)))
-            lines.append(("pick", ("mod", expression, 7), targets))
-        else:
-            lines.append(("stop", expression) if kind == "stop" else ("fail",))
-    return Code(given, cells, chance.randrange(1, 5), tuple(lines), helpers, chance.randrange(count))
-
-
-def givens_of(code):
-    rows = [()]
-    for _, size in code.given:
-        rows = [row + (value,) for row in rows for value in range(size)]
-    return rows
 
 
 class StatesTest(unittest.TestCase):
