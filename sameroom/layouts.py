@@ -28,19 +28,19 @@ class Layout:
         self.sources = []
         self.procedures = dict(program.procedures)
         self.counts = {}
-        self.take_body(program.body, self.line_total(program.body), (), None, ())
+        self.take_body(program.body, self.total_of(program.body), (), None, ())
         self.lines.append(("stop", 0))
         self.sources.append(((None, (len(program.body),)),))
 
-    def line_total(self, body):
+    def total_of(self, body):
         """How many lines a body has."""
         return lines_of_body(body, self.procedures, self.counts)
 
     def take_body(self, body, onward, trail, procedure, path):
         """Append the lines of a body that leads on to the line `onward`."""
-        end = len(self.lines) + self.line_total(body)
+        end = len(self.lines) + self.total_of(body)
         for at, statement in enumerate(body):
-            behind = len(self.lines) + self.line_total((statement,))
+            behind = len(self.lines) + self.total_of((statement,))
             way = (trail, procedure, path + (at,))
             self.take_statement(statement, behind if behind < end else onward, way)
 
@@ -50,7 +50,7 @@ class Layout:
         source = trail + ((procedure, path),)
         if statement[0] == "do":
             # Procedures without lines may do one another very often.
-            if self.line_total((statement,)) > 0:
+            if self.total_of((statement,)) > 0:
                 self.take_body(self.procedures[statement[1]], onward, source, statement[1], ())
             return
         bodies = inner_bodies(statement)
@@ -65,7 +65,7 @@ class Layout:
         targets = []
         line = len(self.lines) + 1
         for body in bodies:
-            total = self.line_total(body)
+            total = self.total_of(body)
             targets.append(line if total > 0 else onward)
             line = line + total
         return targets

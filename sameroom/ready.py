@@ -18,3 +18,11 @@ def ready_line(line, cells, answers):
         return ("stop", steps_of(line[1]), None, answers, ())
     # Nothing is below the bound 0: this line always ends with a fault.
     return ("fail", steps_of(0), None, 0, ())
+
+
+def ready_rule(rule, cells):
+    """A rule made ready: guard, its cell by index, that cell's size, old, new, after, shows; expressions as steps."""
+    _, guard, cell, old, new, after, shows = rule
+    at = None if cell is None else names_of(cells).index(cell)
+    size = 0 if cell is None else cells[at][1]
+    return (steps_of(guard), at, size, steps_of(old), steps_of(new), after, shows)

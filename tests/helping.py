@@ -102,6 +102,29 @@ def slow_step(code, given, state):
     return ((row[3], tuple(known[name] for name in names)), None)
 
 
+def slow_rule_result(book, given, state, rule):
+    """The state after a rule of a book, or None, straight from the words of the document."""
+    names = [cell[0] for cell in book.cells]
+    values = dict(zip([name for name, _ in book.given] + names, given + state[1]))
+    helpers = dict(book.helpers)
+    if rule[0] != state[0] or slow_value(rule[1], values, helpers) == 0:
+        return None
+    if rule[2] is None:
+        return (rule[5], state[1])
+    new = slow_value(rule[4], values, helpers)
+    if slow_value(rule[3], values, helpers) != values[rule[2]] or new not in range(book.cells[names.index(rule[2])][1]):
+        return None
+    return (rule[5], tuple(new if name == rule[2] else values[name] for name in names))
+
+
+def states_of(book):
+    """All states of a book."""
+    rows = [()]
+    for _, size, _ in book.cells:
+        rows = [row + (value,) for row in rows for value in range(size)]
+    return [(place, row) for place in range(book.places) for row in rows]
+
+
 def chance_code(chance, helpers=()):
     given = (("g", chance.randrange(1, 3)), ("x", 2))[:chance.randrange(3)]
     cells = (("a", chance.randrange(1, 4), 0), ("b", 3, chance.randrange(3)), ("c", 2, 1))[:chance.randrange(4)]

@@ -28,10 +28,21 @@ FUNCTIONS = {
         "predecessors": "(code, given, state)",
     },
     "rotations": {"unused_fingers": "(code)", "Rotation": "(code, rows=None)", "lean_rotation": "(code)"},
+    "running": {
+        "rule_applies": "(book, given, state, rule)", "rule_result": "(book, given, state, rule)",
+        "book_next": "(book, given, state)", "course": "(book, given, state=None)",
+        "advance": "(book, given, state, steps)", "shown": "(book, given, state=None)",
+    },
+    "books": {"Book": "(given, cells, places, rules, helpers=(), first=0, last=1)"},
+    "walkers": {
+        "walker": "(code, *, rotation=None, homeward='tour')", "place_of": "(code, line, finger)",
+        "finger_at": "(code, place)",
+    },
 }
 METHODS = {
     ("programs", "Library", "named"): "(self, name)", ("codes", "Code", "call_value"): "(self, args)",
     ("rotations", "Rotation", "after"): "(self, line, finger)", ("rotations", "Rotation", "before"): "(self, line, finger)",
+    ("books", "Book", "call_value"): "(self, args)",
 }
 
 
