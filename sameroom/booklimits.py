@@ -1,7 +1,7 @@
 """Bounds of books and of their rules."""
 
 from sameroom.cells import names_of
-from sameroom.expressions import OWN_NAMES, is_name
+from sameroom.expressions import OWN_NAMES, is_name, levels_in
 from sameroom.limits import are_names, argument_counts, calls_fit, fits, keeps_names, keeps_sizes
 
 MOST_CELLS = 6
@@ -44,7 +44,8 @@ def _rule_fits(rule, names, cell_names, places, counts):
     # The rule must be undone by what its expressions say, so they do not mention the cell that it changes.
     others = [name for name in names if name != cell]
     for expression in (guard, old, new):
-        if not fits(expression, MOST_NODES, MOST_DEPTH, others) or not calls_fit(expression, counts):
+        levels = levels_in(expression)
+        if not fits(levels, MOST_NODES, MOST_DEPTH, others) or not calls_fit(levels, counts):
             return False
     if cell is None:
         return old == 0 and new == 0

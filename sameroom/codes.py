@@ -2,7 +2,7 @@
 
 from sameroom.cells import all_values, in_range, names_of, value_count
 from sameroom.errors import BadCode
-from sameroom.expressions import worked_out
+from sameroom.expressions import levels_in, worked_out
 from sameroom.fingerrows import finger_rows, fingers_by_slot
 from sameroom.limits import (
     MOST_CASES, MOST_LINES, are_names, argument_counts, calls_fit, fits, keeps_names, keeps_sizes,
@@ -44,9 +44,8 @@ def _line_fits(line, given, cells, helpers, line_total):
         return False
     names = names_of(given) + names_of(cells)
     for expression in expressions_of(line):
-        if not fits(expression, MOST_NODES, MOST_DEPTH, names):
-            return False
-        if not calls_fit(expression, argument_counts(helpers)):
+        levels = levels_in(expression)
+        if not fits(levels, MOST_NODES, MOST_DEPTH, names) or not calls_fit(levels, argument_counts(helpers)):
             return False
     return True
 

@@ -65,7 +65,8 @@ def levels_in(expression):
     while todo:
         part, level = todo.pop()
         found.append((part, level))
-        todo.extend([(inner, level + 1) for inner in parts_of(part)])
+        if isinstance(part, tuple):
+            todo.extend([(inner, level + 1) for inner in parts_of(part)])
     return found
 
 

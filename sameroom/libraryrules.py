@@ -1,7 +1,7 @@
 """The rules that a library asks of each of its programs."""
 
 from sameroom.cells import names_of
-from sameroom.expressions import is_name
+from sameroom.expressions import is_name, levels_in
 from sameroom.limits import (
     MOST_CASES, MOST_LINES, are_names, argument_counts, calls_fit, fits, keeps_names, keeps_sizes,
 )
@@ -68,7 +68,7 @@ def _rule_5(program, _):
 def _rule_6(program, _):
     names = names_of(program.given) + names_of(program.cells)
     for expression in _all_expressions(program):
-        if not fits(expression, MOST_NODES, MOST_DEPTH, names):
+        if not fits(levels_in(expression), MOST_NODES, MOST_DEPTH, names):
             return False
     return True
 
@@ -76,7 +76,7 @@ def _rule_6(program, _):
 def _rule_7(program, earlier):
     counts = argument_counts([(other.name, other) for other in earlier])
     for expression in _all_expressions(program):
-        if not calls_fit(expression, counts):
+        if not calls_fit(levels_in(expression), counts):
             return False
     return True
 

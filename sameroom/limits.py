@@ -1,7 +1,7 @@
 """Bounds that programs, codes and books share: on their cells, and on the expressions in them."""
 
 from sameroom.cells import names_of, value_count
-from sameroom.expressions import is_name, levels_in
+from sameroom.expressions import is_name
 
 MOST_GIVEN = 3
 MOST_CELLS = 4
@@ -42,9 +42,8 @@ def keeps_sizes(given, cells, answers):
     return 1 <= answers <= MOST_ANSWERS
 
 
-def fits(expression, most_nodes, most_depth, names):
-    """Whether an expression is small enough, its numbers too, and all its names are among these."""
-    levels = levels_in(expression)
+def fits(levels, most_nodes, most_depth, names):
+    """Whether an expression, told as by `levels_in`, is small, its numbers too, and all its names are among these."""
     if len(levels) > most_nodes:
         return False
     for part, level in levels:
@@ -60,9 +59,9 @@ def argument_counts(helpers):
     return {name: len(helper.given) for name, helper in helpers}
 
 
-def calls_fit(expression, counts):
-    """Whether every call names one of these, with as many arguments as the dict says."""
-    for part, _ in levels_in(expression):
+def calls_fit(levels, counts):
+    """Whether every call in an expression, told as by `levels_in`, has as many arguments as the dict says."""
+    for part, _ in levels:
         if isinstance(part, tuple) and part[0] == "call":
             if part[1] not in counts or len(part[2]) != counts[part[1]]:
                 return False
