@@ -28,3 +28,8 @@ def in_range(cells, values):
         if not 0 <= value < cell[1]:
             return False
     return True
+
+
+def with_starts(cells, values):
+    """The same cells, but with these values as their starts."""
+    return tuple([(cell[0], cell[1], value) for cell, value in zip(cells, values)])

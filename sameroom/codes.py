@@ -1,6 +1,6 @@
 """Codes: programs as tuples of lines."""
 
-from sameroom.cells import all_values, in_range, names_of, value_count
+from sameroom.cells import all_values, in_range, names_of, value_count, with_starts
 from sameroom.errors import BadCode
 from sameroom.expressions import levels_in, worked_out
 from sameroom.fingerrows import finger_rows, fingers_by_slot
@@ -9,6 +9,7 @@ from sameroom.limits import (
 )
 from sameroom.plain import outcome
 from sameroom.ready import ready_line
+from sameroom.rotations import Rotation
 from sameroom.statements import expressions_of
 
 MOST_HELPERS = 4
@@ -86,6 +87,8 @@ class Code:
         # Kept answers. Without those by givens, codes that ask codes that ask codes would take ages.
         self._outcomes = {}
         self._used_slots = None
+        self._plain_rotation = None
+        self._walker = None
 
     @property
     def state_count(self):
@@ -130,6 +133,20 @@ class Code:
             self._used_slots = _slots_met(self)
         return self._used_slots
 
+    def plain_rotation(self):
+        """The rotation whose rows have all fingers in ascending order."""
+        if self._plain_rotation is None:
+            self._plain_rotation = Rotation(self)
+        return self._plain_rotation
+
+    def kept_walker(self):
+        """The walker in the plain rotation that was kept, or None."""
+        return self._walker
+
+    def keep_walker(self, book):
+        """Keep the walker in the plain rotation, and with it what that keeps: many questions ask it."""
+        self._walker = book
+
     def __eq__(self, other):
         if not isinstance(other, Code):
             return False
@@ -142,5 +159,4 @@ class Code:
 def started(code, state):
     """The same code, but beginning at this state."""
     line, values = state
-    cells = tuple([(cell[0], cell[1], value) for cell, value in zip(code.cells, values)])
-    return Code(code.given, cells, code.answers, code.lines, code.helpers, line)
+    return Code(code.given, with_starts(code.cells, values), code.answers, code.lines, code.helpers, line)

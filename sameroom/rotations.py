@@ -1,6 +1,7 @@
 """Rotations: the order in which the fingers of each line follow one another."""
 
 from sameroom.errors import BadRotation
+from sameroom.turning import finger_after, finger_before
 
 
 def _is_unused(code, slot):
@@ -45,18 +46,21 @@ class Rotation:
 
     def after(self, line, finger):
         """The finger after this one in the row of the line."""
-        row = self.rows[line]
-        return row[(row.index(finger) + 1) % len(row)]
+        return finger_after(self.rows[line], finger)
 
     def before(self, line, finger):
         """The finger before this one in the row of the line."""
-        row = self.rows[line]
-        return row[row.index(finger) - 1]
+        return finger_before(self.rows[line], finger)
 
     def __eq__(self, other):
         if not isinstance(other, Rotation):
             return False
         return self.rows == other.rows
+
+
+def rotation_or_plain(code, rotation):
+    """A rotation of the code, where None means the plain one."""
+    return code.plain_rotation() if rotation is None else rotation
 
 
 def lean_rotation(code):

@@ -1,8 +1,10 @@
 """Walkers: every code as a book that can be undone, with one cell more for the answer."""
 
 from sameroom.books import Book, inverse_rule
-from sameroom.rotations import Rotation
-from sameroom.walkerrules import BEGIN, FIRST_PLACE, HOME, WalkerRules, first_places, plain_rule
+from sameroom.rotations import rotation_or_plain
+from sameroom.rulemaking import plain_rule
+from sameroom.walkerrules import WalkerRules
+from sameroom.ways import BEGIN, FIRST_PLACE, HOME, first_places
 
 ANSWER_IS_OPEN = ("=", "answer", 0)
 ANSWER_IS_TOLD = ("!=", "answer", 0)
@@ -50,9 +52,8 @@ def _with_way_back(rules, many):
     return there + back
 
 
-def _made_walker(code, rotation, homeward, made):
-    """The walker of a code; `made` is a list of pairs of a helper code and its walker, which gets the new ones."""
-    helpers = tuple([(name, _helper_walker(helper, made)) for name, helper in code.helpers])
+def _made_walker(code, rotation, homeward, helpers):
+    """The walker of a code; `helpers` are the pairs of the names and the walkers of its helpers."""
     rules = WalkerRules(code, rotation).rules
     places = first_places(code)[-1]
     if homeward == "return":
@@ -63,16 +64,32 @@ def _made_walker(code, rotation, homeward, made):
     return Book(code.given, cells, places, tuple(rules), helpers, BEGIN, HOME)
 
 
-def _helper_walker(code, made):
-    # Equal helpers share one walker, and with it what it keeps: a code may ask the same one in many ways.
-    for other, book in made:
-        if other == code:
-            return book
-    book = _made_walker(code, Rotation(code), "tour", made)
-    made.append((code, book))
-    return book
+def _known_walker(code, made):
+    """The walker of a code in the plain rotation; `made` is a list of codes whose walkers are kept, and grows."""
+    if code.kept_walker() is None:
+        # Equal codes share one walker, and with it what it keeps: a code may ask the same one in many ways.
+        for other in made:
+            if other == code:
+                code.keep_walker(other.kept_walker())
+                return code.kept_walker()
+        helpers = _known_walkers(code, made)
+        code.keep_walker(_made_walker(code, code.plain_rotation(), "tour", helpers))
+    made.append(code)
+    return code.kept_walker()
+
+
+def _known_walkers(code, made):
+    """The pairs of the names and the walkers of the helpers of a code."""
+    return tuple([(name, _known_walker(helper, made)) for name, helper in code.helpers])
+
+
+def helper_walkers(code):
+    """The helpers of a book that walks along a code: the walkers of the code's helpers, by their names."""
+    return _known_walkers(code, [])
 
 
 def walker(code, *, rotation=None, homeward="tour"):
     """The book that walks along a tour of the code and tells its outcome number."""
-    return _made_walker(code, Rotation(code) if rotation is None else rotation, homeward, [])
+    if rotation is None and homeward == "tour":
+        return _known_walker(code, [])
+    return _made_walker(code, rotation_or_plain(code, rotation), homeward, helper_walkers(code))

@@ -3,10 +3,33 @@
 Also slow ways to answer questions, straight from the words of the document.
 """
 
+import random
+
 from sameroom.codes import Code
 from sameroom.errors import RoomError
+from sameroom.fingers import across
+from sameroom.plain import start_state
 from sameroom.programs import Library, Program
+from sameroom.rotations import Rotation, lean_rotation
+from sameroom.running import advance, book_next, course
+from sameroom.slots import finger_count
 
+STEP = Code((), (("x", 2, 0),), 2, (("set", "x", ("+", "x", 1), 1), ("stop", "x")))
+COUNT = Code((), (("x", 3, 0),), 3, (
+    ("set", "x", ("mod", ("+", "x", 1), 3), 1), ("pick", ("=", "x", 2), (0, 2)), ("stop", "x"),
+))
+FLIP = Code((), (("x", 2, 0),), 1, (("set", "x", ("-", 1, "x"), 0),))
+# Every kind of line; it begins at line 1.
+KINDS = Code((("g", 3),), (("x", 2, 1),), 2, (
+    ("set", "x", ("-", "g", "x"), 1), ("pick", "g", (0, 0, 2)), ("stop", "x"), ("fail",),
+), (), 1)
+BARE = Code((), (), 1, (("fail",),))
+# From every state the run ends, after up to 1536 lines.
+LARGEST = Code((("g", 8), ("h", 4)), (("x", 8, 0), ("y", 8, 0)), 9, (
+    *[("set", "x", ("mod", ("+", ("+", "x", 1), ("*", 0, "g")), 8), line + 1) for line in range(21)],
+    ("pick", ("and", ("=", "x", 0), ("=", "y", 7)), (22, 23)), ("set", "y", ("mod", ("+", "y", ("=", "x", 0)), 8), 0),
+    ("stop", ("+", "h", ("div", "g", 2))),
+))
 BINARY = ("or", "and", "=", "!=", "<", "<=", ">", ">=", "+", "-", "*", "div", "mod")
 
 
@@ -147,6 +170,17 @@ def chance_code(chance, helpers=()):
     return Code(given, cells, chance.randrange(1, 5), tuple(lines), helpers, chance.randrange(count))
 
 
+def small_codes(seed, count, most):
+    """Random codes with few states."""
+    chance = random.Random(seed)
+    found = []
+    while len(found) < count:
+        code = chance_code(chance)
+        if code.state_count <= most:
+            found.append(code)
+    return found
+
+
 def givens_of(code):
     rows = [()]
     for _, size in code.given:
@@ -198,3 +232,58 @@ def chance_library(chance, count):
         if isinstance(told(Library, programs + (program,)), Library):
             programs = programs + (program,)
     return Library(programs)
+
+
+def rotations_of(chance, code):
+    """The plain rotation, the lean one, and one with its rows in any order and some of the unused fingers."""
+    lean = lean_rotation(code)
+    rows = []
+    for line, row in enumerate(lean.rows):
+        more = [finger for finger in range(finger_count(code, line)) if finger not in row and chance.random() < 0.5]
+        row = [*row, *more]
+        chance.shuffle(row)
+        rows.append(tuple(row))
+    return (Rotation(code), lean, Rotation(code, tuple(rows)))
+
+
+def slow_onward(code, given, pointer, rotation):
+    state, finger = across(code, given, *pointer)
+    row = rotation.rows[state[0]]
+    return state, row[(row.index(finger) + 1) % len(row)]
+
+
+def slow_tour(code, given, rotation):
+    """The tour of the pointer (start state, 1)."""
+    first = (start_state(code), 1)
+    tour = [first]
+    while True:
+        pointer = slow_onward(code, given, tour[-1], rotation)
+        if pointer == first:
+            return tour
+        tour.append(pointer)
+
+
+def check_reversible(test, book):
+    """No two rules apply at one state or lead to one state; so the inverse leads back."""
+    for given in givens_of(book):
+        behind = {}
+        for state in states_of(book):
+            results = [result for result in [slow_rule_result(book, given, state, rule) for rule in book] if result is not None]
+            test.assertLessEqual(len(results), 1)
+            for result in results:
+                test.assertNotIn(result, behind)
+                behind[result] = state
+                test.assertEqual(book_next(book, given, state), result)
+        back = ~book
+        test.assertTrue(all(book_next(back, given, result) == state for result, state in behind.items()))
+        at_no_rule = [state for state in states_of(book) if book_next(book, given, state) is None]
+        unreached = [state for state in states_of(book) if state not in behind]
+        test.assertEqual(len(at_no_rule), len(unreached))
+        for state in unreached:
+            test.assertEqual(course(book, given, state)[0], "ends")
+        for state in list(behind)[::7]:
+            kind, steps, final = course(book, given, state)
+            if kind == "ends":
+                test.assertEqual(advance(back, given, final, steps), state)
+            else:
+                test.assertEqual(steps, 0)

@@ -38,6 +38,26 @@ FUNCTIONS = {
         "walker": "(code, *, rotation=None, homeward='tour')", "place_of": "(code, line, finger)",
         "finger_at": "(code, place)",
     },
+    "walks": {
+        "walk_outcome": "(code, given, *, rotation=None, homeward='tour')",
+        "walk_steps": "(code, given, *, rotation=None, homeward='tour')",
+    },
+    "graphs": {
+        "Graph": "(nexts, rotation=None)", "graph_predecessors": "(graph, node)", "graph_ends": "(graph)",
+        "graph_component": "(graph, node)", "graph_cycles": "(graph)", "graph_across": "(graph, node, finger)",
+        "graph_onward": "(graph, node, finger)", "graph_backward": "(graph, node, finger)",
+        "graph_after": "(graph, node, finger)", "graph_before": "(graph, node, finger)", "graph_tour": "(graph, node, finger)",
+        "graph_tours": "(graph)",
+    },
+    "tours": {
+        "onward": "(code, given, state, finger, *, rotation=None)", "backward": "(code, given, state, finger, *, rotation=None)",
+        "tour_from": "(code, given, state, finger, *, rotation=None)", "state_number": "(code, state)",
+        "numbered_state": "(code, number)", "graph_of": "(code, given)",
+    },
+    "lookback": {
+        "origins_book": "(code, state)", "origins": "(code, given, state)", "first_origins": "(code, given, state)",
+        "comes_back": "(code, given, state)", "leads_to": "(code, given, one, two)", "givens_to": "(code, state)",
+    },
 }
 METHODS = {
     ("programs", "Library", "named"): "(self, name)", ("codes", "Code", "call_value"): "(self, args)",

@@ -8,24 +8,17 @@ from sameroom.books import Book
 from sameroom.codes import Code
 from sameroom.compiling import code_of
 from sameroom.expressions import replaced
-from sameroom.fingers import across
 from sameroom.librarytexts import read_library
 from sameroom.plain import all_states, end_number, outcome, start_state
 from sameroom.rotations import Rotation, lean_rotation
 from sameroom.running import advance, book_next, course, rule_result
 from sameroom.slots import finger_count, finger_slot, slot_finger, slots
 from sameroom.walkers import finger_at, place_of, walker
-from tests.helping import chance_code, givens_of, is_plain, slow_rule_result, states_of, wide
+from tests.helping import (
+    COUNT, FLIP, KINDS, LARGEST, STEP, chance_code, check_reversible, givens_of, is_plain, rotations_of, slow_onward, slow_tour, states_of,
+    wide,
+)
 
-STEP = Code((), (("x", 2, 0),), 2, (("set", "x", ("+", "x", 1), 1), ("stop", "x")))
-COUNT = Code((), (("x", 3, 0),), 3, (
-    ("set", "x", ("mod", ("+", "x", 1), 3), 1), ("pick", ("=", "x", 2), (0, 2)), ("stop", "x"),
-))
-FLIP = Code((), (("x", 2, 0),), 1, (("set", "x", ("-", 1, "x"), 0),))
-# Every kind of line; it begins at line 1.
-KINDS = Code((("g", 3),), (("x", 2, 1),), 2, (
-    ("set", "x", ("-", "g", "x"), 1), ("pick", "g", (0, 0, 2)), ("stop", "x"), ("fail",),
-), (), 1)
 KINDS_RULES = (
     (0, ("=", "x", 1), None, 0, 0, 7, False),
     (2, 1, "x", 0, ("-", "g", 0), 8, False),
@@ -94,35 +87,6 @@ TURNED_RULES = (
     (17, ("=", "g", 2), None, 0, 0, 20, False),
     (19, ("!=", "g", 2), None, 0, 0, 20, False),
 )
-
-
-def rotations_of(chance, code):
-    """The plain rotation, the lean one, and one with its rows in any order and some of the unused fingers."""
-    lean = lean_rotation(code)
-    rows = []
-    for line, row in enumerate(lean.rows):
-        more = [finger for finger in range(finger_count(code, line)) if finger not in row and chance.random() < 0.5]
-        row = [*row, *more]
-        chance.shuffle(row)
-        rows.append(tuple(row))
-    return (Rotation(code), lean, Rotation(code, tuple(rows)))
-
-
-def slow_onward(code, given, pointer, rotation):
-    state, finger = across(code, given, *pointer)
-    row = rotation.rows[state[0]]
-    return state, row[(row.index(finger) + 1) % len(row)]
-
-
-def slow_tour(code, given, rotation):
-    """The tour of the pointer (start state, 1)."""
-    first = (start_state(code), 1)
-    tour = [first]
-    while True:
-        pointer = slow_onward(code, given, tour[-1], rotation)
-        if pointer == first:
-            return tour
-        tour.append(pointer)
 
 
 def slow_rules(code, rotation, homeward):
@@ -368,31 +332,6 @@ class WalkTest(unittest.TestCase):
             self.assertIs(told[2] == (0, starts + (0,)), guess == number)
             self.assertEqual(told[2][1][-1], 0 if guess == number else guess)
 
-    def check_reversible(self, book):
-        """No two rules apply at one state or lead to one state; so the inverse leads back."""
-        for given in givens_of(book):
-            behind = {}
-            for state in states_of(book):
-                results = [result for result in [slow_rule_result(book, given, state, rule) for rule in book] if result is not None]
-                self.assertLessEqual(len(results), 1)
-                for result in results:
-                    self.assertNotIn(result, behind)
-                    behind[result] = state
-                    self.assertEqual(book_next(book, given, state), result)
-            back = ~book
-            self.assertTrue(all(book_next(back, given, result) == state for result, state in behind.items()))
-            at_no_rule = [state for state in states_of(book) if book_next(book, given, state) is None]
-            unreached = [state for state in states_of(book) if state not in behind]
-            self.assertEqual(len(at_no_rule), len(unreached))
-            for state in unreached:
-                self.assertEqual(course(book, given, state)[0], "ends")
-            for state in list(behind)[::7]:
-                kind, steps, final = course(book, given, state)
-                if kind == "ends":
-                    self.assertEqual(advance(back, given, final, steps), state)
-                else:
-                    self.assertEqual(steps, 0)
-
     def test_steps(self):
         chance = random.Random(58)
         for code in (STEP, COUNT, FLIP, KINDS):
@@ -435,7 +374,7 @@ class WalkTest(unittest.TestCase):
         for code in (STEP, FLIP, KINDS, *small):
             rotation = chance.choice(rotations_of(chance, code))
             for homeward in ("tour", "return"):
-                self.check_reversible(walker(code, rotation=rotation, homeward=homeward))
+                check_reversible(self, walker(code, rotation=rotation, homeward=homeward))
 
     def test_the_tour_has_every_finger_if_the_run_ends(self):
         # Everything leads to one end, so each finger of the rows is passed at every state.
@@ -508,10 +447,7 @@ class LibraryTest(unittest.TestCase):
 class QuickTest(unittest.TestCase):
     def test_the_largest_codes(self):
         # From every state the run ends: the tour has every finger of all 1536 states.
-        lines = [("set", "x", ("mod", ("+", ("+", "x", 1), ("*", 0, "g")), 8), line + 1) for line in range(21)]
-        lines += [("pick", ("and", ("=", "x", 0), ("=", "y", 7)), (22, 23)), ("set", "y", ("mod", ("+", "y", ("=", "x", 0)), 8), 0),
-                  ("stop", ("+", "h", ("div", "g", 2)))]
-        code = Code((("g", 8), ("h", 4)), (("x", 8, 0), ("y", 8, 0)), 9, tuple(lines))
+        code = LARGEST
         book = walker(code)
         steps = 64 * sum(finger_count(code, line) for line in range(24)) - 63 * finger_count(code, 23) + 1
         for given in givens_of(code)[::5]:
