@@ -4,9 +4,7 @@ from sameroom.errors import BadLine
 from sameroom.expressiontexts import write_expression
 from sameroom.libraryreading import LibraryReader, take_line
 from sameroom.programs import Library
-from sameroom.textlines import line_total, told_lines
-
-INDENT = "  "
+from sameroom.textlines import cell_lines, indented, line_total, told_lines
 
 
 def read_library(text):
@@ -18,10 +16,6 @@ def read_library(text):
     if not reader.may_end():
         raise BadLine(line_total(text) + 1)
     return Library(tuple(reader.finished))
-
-
-def _indented(lines):
-    return [INDENT + line for line in lines]
 
 
 def _if_lines(statement):
@@ -60,16 +54,11 @@ def _body_lines(body):
     lines = []
     for statement in body:
         lines.extend(_statement_lines(statement))
-    return _indented(lines)
+    return indented(lines)
 
 
 def _program_lines(program):
-    lines = [f"program {program.name}"]
-    for name, size in program.given:
-        lines.append(f"given {name} {size}")
-    for name, size, start in program.cells:
-        lines.append(f"cell {name} {size} {start}")
-    lines.append(f"answers {program.answers}")
+    lines = [f"program {program.name}", *cell_lines(program.given, program.cells), f"answers {program.answers}"]
     for name, body in program.procedures:
         lines.extend([f"procedure {name}", *_body_lines(body), "end"])
     return [*lines, "begin", *_body_lines(program.body), "end"]

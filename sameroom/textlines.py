@@ -1,7 +1,9 @@
-"""Texts of lines: remarks and empty lines left out, and the parts of the others."""
+"""Texts of lines: remarks and empty lines left out, and the parts of the others; lines that several texts have."""
 
 from sameroom.errors import BadText
 from sameroom.expressiontexts import read_expression
+
+INDENT = "  "
 
 
 def told_lines(text):
@@ -38,3 +40,14 @@ def told_expression(text):
         return read_expression(text)
     except BadText:
         return None
+
+
+def indented(lines):
+    """The same lines, two spaces further in."""
+    return [INDENT + line for line in lines]
+
+
+def cell_lines(given, cells):
+    """The lines of given cells and of cells."""
+    lines = [f"given {name} {size}" for name, size in given]
+    return lines + [f"cell {name} {size} {start}" for name, size, start in cells]

@@ -6,25 +6,37 @@ from sameroom.plain import all_states, next_state
 from sameroom.rotations import rotation_or_plain
 
 
-def onward(code, given, state, finger, *, rotation=None):
+def step_on(code, given, pointer, rotation):
     """The next pointer of the tour: crosses, then turns to the finger after the one that it came by."""
-    there, by = across(code, given, state, finger)
-    return (there, rotation_or_plain(code, rotation).after(there[0], by))
+    there, by = across(code, given, pointer[0], pointer[1])
+    return (there, rotation.after(there[0], by))
+
+
+def step_back(code, given, pointer, rotation):
+    """The pointer from which `step_on` leads to this one."""
+    state, finger = pointer
+    return across(code, given, state, rotation.before(state[0], finger))
+
+
+def onward(code, given, state, finger, *, rotation=None):
+    """The next pointer of the tour."""
+    return step_on(code, given, (state, finger), rotation_or_plain(code, rotation))
 
 
 def backward(code, given, state, finger, *, rotation=None):
     """The pointer from which `onward` leads to this one."""
-    return across(code, given, state, rotation_or_plain(code, rotation).before(state[0], finger))
+    return step_back(code, given, (state, finger), rotation_or_plain(code, rotation))
 
 
 def tour_from(code, given, state, finger, *, rotation=None):
     """The pointers to which `onward` leads from this one, this one first."""
+    turning = rotation_or_plain(code, rotation)
     first = (state, finger)
     yield first
-    pointer = onward(code, given, state, finger, rotation=rotation)
+    pointer = step_on(code, given, first, turning)
     while pointer != first:
         yield pointer
-        pointer = onward(code, given, pointer[0], pointer[1], rotation=rotation)
+        pointer = step_on(code, given, pointer, turning)
 
 
 def state_number(code, state):

@@ -58,12 +58,36 @@ FUNCTIONS = {
         "origins_book": "(code, state)", "origins": "(code, given, state)", "first_origins": "(code, given, state)",
         "comes_back": "(code, given, state)", "leads_to": "(code, given, one, two)", "givens_to": "(code, state)",
     },
+    "clashes": {"find_clash": "(book)"},
+    "basins": {"states_with_outcome": "(code, given, number)", "components": "(code, given)"},
+    "debugging": {"Debugger": "(code, given, *, rotation=None)"},
+    "booktexts": {"write_book": "(book)", "read_book": "(text)"},
 }
 METHODS = {
     ("programs", "Library", "named"): "(self, name)", ("codes", "Code", "call_value"): "(self, args)",
     ("rotations", "Rotation", "after"): "(self, line, finger)", ("rotations", "Rotation", "before"): "(self, line, finger)",
-    ("books", "Book", "call_value"): "(self, args)",
+    ("books", "Book", "call_value"): "(self, args)", ("debugging", "Debugger", "forward"): "(self, steps=1)",
+    ("debugging", "Debugger", "backward"): "(self, steps=1)", ("debugging", "Debugger", "go_to"): "(self, state, finger=0)",
+    ("debugging", "Debugger", "go_home"): "(self)", ("debugging", "Debugger", "seek"): "(self, condition)",
+    ("debugging", "Debugger", "seek_back"): "(self, condition)", ("debugging", "Debugger", "age"): "(self)",
+    ("debugging", "Debugger", "outcome"): "(self)", ("debugging", "Debugger", "snapshot"): "(self)",
 }
+PROPERTIES = (
+    ("codes", "Code", "state_count"), ("books", "Book", "start"), ("books", "Book", "room"), ("debugging", "Debugger", "state"),
+    ("debugging", "Debugger", "finger"),
+)
+OPERATORS = {
+    ("programs", "Program"): ("eq",), ("programs", "Library"): ("eq", "len", "iter", "contains"), ("codes", "Code"): ("eq",),
+    ("rotations", "Rotation"): ("eq",), ("books", "Book"): ("eq", "len", "iter", "invert"),
+}
+GENERATORS = (
+    ("plain", "all_states"), ("tours", "tour_from"), ("running", "shown"), ("lookback", "origins"), ("lookback", "first_origins"),
+    ("basins", "states_with_outcome"),
+)
+
+
+def member(file, owner):
+    return getattr(importlib.import_module(f"sameroom.{file}"), owner)
 
 
 class InterfaceTest(unittest.TestCase):
@@ -76,8 +100,22 @@ class InterfaceTest(unittest.TestCase):
 
     def test_methods(self):
         for (file, owner, name), signature in METHODS.items():
-            method = vars(getattr(importlib.import_module(f"sameroom.{file}"), owner))[name]
+            method = vars(member(file, owner))[name]
             self.assertEqual(str(inspect.signature(method)), signature, name)
+        made = vars(member("debugging", "Debugger"))["from_snapshot"]
+        self.assertIsInstance(made, classmethod)
+        self.assertEqual(str(inspect.signature(made.__func__)), "(cls, code, given, snapshot, *, rotation=None)")
+
+    def test_properties_and_operators(self):
+        for file, owner, name in PROPERTIES:
+            self.assertIsInstance(vars(member(file, owner))[name], property, name)
+        for (file, owner), names in OPERATORS.items():
+            for name in names:
+                self.assertIn(f"__{name}__", vars(member(file, owner)))
+
+    def test_generators(self):
+        for file, name in GENERATORS:
+            self.assertTrue(inspect.isgeneratorfunction(member(file, name)), name)
 
 
 if __name__ == "__main__":
